@@ -1,12 +1,12 @@
 package heap_test
 
 import (
-	"math"
 	"slices"
 	"testing"
 
 	"flotsam/api"
 	"flotsam/heap"
+	"flotsam/testheap"
 )
 
 // wordsOf, blocksOf and fieldsOf are what the chapters 2 and 4 say of each class.
@@ -16,29 +16,13 @@ var (
 	fieldsOf = []int{1, 3, 7, 15}
 )
 
-// far are numbers that are no page, class, count or address: such as would be right in fewer bits too.
-var far = []int{
-	-1, -2, -3, -4, -8, -15, -16, -17, -31, -32, -33, -64, -256, -512,
-	512, 513, 514, 544, 1024, 4096, 1 << 16, 1<<16 + 1, 1 << 32, 1<<32 + 1, 1<<32 + 32, -1 << 32, -1<<32 + 32,
-	1 << 59, 1 << 60, 1<<60 + 32, math.MaxInt32, math.MinInt32, math.MaxInt, math.MaxInt - 31, math.MinInt, math.MinInt + 32,
-}
-
-// withRoom answers a list of its own with that in it, and room behind its length that is filled with filler.
-func withRoom[T any](l []T, filler T) []T {
-	out := append(slices.Clone(l), filler, filler, filler)
-	return out[:len(l)]
-}
-
-// whole are a list's items, with the room behind its length.
-func whole[T any](l []T) []T { return l[:cap(l)] }
-
 // heapOf answers a heap of these spans, each of whose words tells its address, with room behind both lists.
 func heapOf(spans ...api.Span) api.Heap {
 	words := make([]uint64, 32*len(spans))
 	for at := range words {
 		words[at] = uint64(at)<<8 + 7
 	}
-	return api.Heap{Words: withRoom(words, 77), Spans: withRoom(spans, api.Span{State: 7, Class: 7, Free: 7})}
+	return api.Heap{Words: testheap.WithRoom(words, 77), Spans: testheap.WithRoom(spans, api.Span{State: 7, Class: 7, Free: 7})}
 }
 
 // mixed answers a heap of pages of all kinds, written out by hand; its sense is true.
@@ -71,22 +55,6 @@ func forms() []api.Heap {
 	return []api.Heap{heapOf(api.Span{}), one, mixed(), heapOf(all...), heapOf(make([]api.Span, api.MaxPages)...)}
 }
 
-// kept answers a heap as h is, of memory of its own, with the room behind its lists.
-func kept(h api.Heap) api.Heap {
-	words, spans := slices.Clone(whole(h.Words)), slices.Clone(whole(h.Spans))
-	return api.Heap{Words: words[:len(h.Words):len(words)], Spans: spans[:len(h.Spans):len(spans)], Sense: h.Sense}
-}
-
-// same tells whether two heaps are the same, their lists item by item.
-func same(a, b api.Heap) bool {
-	return a.Sense == b.Sense && slices.Equal(a.Words, b.Words) && slices.Equal(a.Spans, b.Spans)
-}
-
-// untouched tells whether h is as it was kept, the room behind its lists included.
-func untouched(h, was api.Heap) bool {
-	return same(h, was) && slices.Equal(whole(h.Words), whole(was.Words)) && slices.Equal(whole(h.Spans), whole(was.Spans))
-}
-
 // isFree tells whether a right span has no such block, or that is free.
 func isFree(s api.Span, index int) bool {
 	return s.State == api.SpanFree || index >= blocksOf[s.Class] || s.Free>>index&1 == 1
@@ -106,7 +74,7 @@ func leastFree(s api.Span) int {
 func TestNew(t *testing.T) {
 	for pages := 1; pages <= 16; pages++ {
 		want := api.Heap{Words: make([]uint64, 32*pages), Spans: make([]api.Span, pages)}
-		if h, e := heap.New(pages); e != api.OK || !same(h, want) {
+		if h, e := heap.New(pages); e != api.OK || !testheap.Same(h, want) {
 			t.Errorf("New(%d): %+v, %d", pages, h, e)
 		}
 	}
@@ -114,8 +82,8 @@ func TestNew(t *testing.T) {
 
 // TestNewOfWrongPages is of P7.1: Heap{} and ErrArg.
 func TestNewOfWrongPages(t *testing.T) {
-	for _, pages := range append([]int{0, 17, 18, 32, 256 + 1}, far...) {
-		if h, e := heap.New(pages); e != api.ErrArg || !same(h, api.Heap{}) {
+	for _, pages := range append([]int{0, 17, 18, 32, 256 + 1}, testheap.Far()...) {
+		if h, e := heap.New(pages); e != api.ErrArg || !testheap.Same(h, api.Heap{}) {
 			t.Errorf("New(%d): %+v, %d", pages, h, e)
 		}
 	}
@@ -190,7 +158,7 @@ func TestFindEverywhere(t *testing.T) {
 				begins[32*page+index*wordsOf[s.Class]] = [2]int{page, index}
 			}
 		}
-		addresses := slices.Clone(far)
+		addresses := testheap.Far()
 		for at := -100; at < 700; at++ {
 			addresses = append(addresses, at)
 		}
@@ -208,11 +176,11 @@ func TestOpen(t *testing.T) {
 	for i, h := range forms() {
 		for page, s := range h.Spans {
 			for c, free := range []uint32{0xffff, 0xff, 0xf, 3} {
-				want := kept(h)
+				want := testheap.Kept(h)
 				if s.State == api.SpanFree {
 					want.Spans[page] = api.Span{State: api.SpanClean, Class: c, Free: free}
 				}
-				if n, ok := heap.Open(h, page, c); !same(n, want) || ok != (s.State == api.SpanFree) {
+				if n, ok := heap.Open(h, page, c); !testheap.Same(n, want) || ok != (s.State == api.SpanFree) {
 					t.Errorf("form %d: Open(h, %d, %d): %+v, %t", i, page, c, n.Spans, ok)
 				}
 			}
@@ -224,11 +192,11 @@ func TestOpen(t *testing.T) {
 func TestNoOpen(t *testing.T) {
 	h := mixed()
 	refused := [][2]int{{1, 4}, {1, 5}, {1, 7}, {11, 0}, {12, 3}, {16, 0}, {17, 2}, {0, 0}, {6, 2}, {7, 2}, {0, 4}, {11, 4}}
-	for _, n := range far {
+	for _, n := range testheap.Far() {
 		refused = append(refused, [2]int{n, 0}, [2]int{n, 3}, [2]int{1, n}, [2]int{n, n})
 	}
 	for _, x := range refused {
-		if n, ok := heap.Open(h, x[0], x[1]); ok || !same(n, h) {
+		if n, ok := heap.Open(h, x[0], x[1]); ok || !testheap.Same(n, h) {
 			t.Errorf("Open(h, %d, %d): %+v, %t", x[0], x[1], n.Spans, ok)
 		}
 	}
@@ -242,11 +210,11 @@ func TestClose(t *testing.T) {
 				for page := range 3 {
 					h := heapOf(api.Span{}, api.Span{State: api.SpanClean, Class: 1, Free: 0xff}, api.Span{State: api.SpanDirty, Class: 3})
 					h.Spans[page], h.Sense = api.Span{State: state, Class: c, Free: free &^ missing}, page == 1
-					want := kept(h)
+					want := testheap.Kept(h)
 					if missing == 0 {
 						want.Spans[page] = api.Span{}
 					}
-					if n, ok := heap.Close(h, page); !same(n, want) || ok != (missing == 0) {
+					if n, ok := heap.Close(h, page); !testheap.Same(n, want) || ok != (missing == 0) {
 						t.Errorf("Close(h, %d) of %+v: %+v, %t", page, h.Spans[page], n, ok)
 					}
 				}
@@ -258,8 +226,8 @@ func TestClose(t *testing.T) {
 // TestNoClose is of P7.2: h and false of no such page, a free one, one with a block that isn't free.
 func TestNoClose(t *testing.T) {
 	h := mixed()
-	for _, page := range append([]int{0, 1, 2, 3, 4, 5, 8, 9, 10, 11, 12, 16, 17, 32}, far...) {
-		if n, ok := heap.Close(h, page); ok || !same(n, h) {
+	for _, page := range append([]int{0, 1, 2, 3, 4, 5, 8, 9, 10, 11, 12, 16, 17, 32}, testheap.Far()...) {
+		if n, ok := heap.Close(h, page); ok || !testheap.Same(n, h) {
 			t.Errorf("Close(h, %d): %+v, %t", page, n.Spans, ok)
 		}
 	}
@@ -302,7 +270,7 @@ func TestLayEverywhere(t *testing.T) {
 	for i, h := range forms() {
 		for page, s := range h.Spans {
 			for fields := -1; fields <= 17; fields++ {
-				index, want, wantAt := leastFree(s), kept(h), 0
+				index, want, wantAt := leastFree(s), testheap.Kept(h), 0
 				can := index >= 0 && fields >= 0 && fields <= fieldsOf[s.Class]
 				if can {
 					wantAt = 32*page + index*wordsOf[s.Class]
@@ -313,7 +281,7 @@ func TestLayEverywhere(t *testing.T) {
 						want.Words[wantAt] += 64
 					}
 				}
-				if n, at, ok := heap.Lay(h, page, fields); !same(n, want) || at != wantAt || ok != can {
+				if n, at, ok := heap.Lay(h, page, fields); !testheap.Same(n, want) || at != wantAt || ok != can {
 					t.Errorf("form %d: Lay(h, %d, %d): %d, %t; not %d, %t", i, page, fields, at, ok, wantAt, can)
 				}
 			}
@@ -328,11 +296,11 @@ func TestNoLay(t *testing.T) {
 		{1, 0}, {5, 0}, {7, 0}, {8, 0}, {9, 0}, {11, 0}, {12, 0}, {16, 0}, {5, 15}, {7, 7},
 		{0, 2}, {2, 4}, {3, 8}, {4, 16}, {0, 3}, {2, 7}, {3, 15}, {0, -1}, {2, -1}, {3, -1}, {4, -1}, {4, 32}, {11, 16},
 	}
-	for _, n := range far {
+	for _, n := range testheap.Far() {
 		refused = append(refused, [2]int{n, 0}, [2]int{0, n}, [2]int{4, n}, [2]int{n, n})
 	}
 	for _, x := range refused {
-		if n, at, ok := heap.Lay(h, x[0], x[1]); ok || at != 0 || !same(n, h) {
+		if n, at, ok := heap.Lay(h, x[0], x[1]); ok || at != 0 || !testheap.Same(n, h) {
 			t.Errorf("Lay(h, %d, %d): %d, %t", x[0], x[1], at, ok)
 		}
 	}
@@ -350,18 +318,18 @@ func TestFree(t *testing.T) {
 				}
 			}
 		}
-		addresses := slices.Clone(far)
+		addresses := testheap.Far()
 		for at := -40; at < 600; at++ {
 			addresses = append(addresses, at)
 		}
 		for _, at := range addresses {
 			place, can := taken[at]
-			want := kept(h)
+			want := testheap.Kept(h)
 			if can {
 				want.Spans[place[0]].Free += 1 << place[1]
 				clear(want.Words[at : at+wordsOf[h.Spans[place[0]].Class]])
 			}
-			if n, ok := heap.Free(h, at); !same(n, want) || ok != can {
+			if n, ok := heap.Free(h, at); !testheap.Same(n, want) || ok != can {
 				t.Errorf("form %d: Free(h, %d): %t, not %t", i, at, ok, can)
 			}
 		}
@@ -378,7 +346,7 @@ func TestFreeByHand(t *testing.T) {
 		}
 	}
 	for _, at := range []int{2, 30, 1, 3, 32, 33, 80, 92, 65, 96, 104, 113, 144, 136, 192, 224, 256, 286, 350, 351, 352, 480} {
-		if n, ok := heap.Free(h, at); ok || !same(n, h) {
+		if n, ok := heap.Free(h, at); ok || !testheap.Same(n, h) {
 			t.Errorf("Free(h, %d): %t", at, ok)
 		}
 	}
@@ -544,7 +512,7 @@ func TestAHeapIsFilled(t *testing.T) {
 		for page := range 16 {
 			w.turn(1, page, 0, 0)
 		}
-		if !same(w.h, api.Heap{Words: make([]uint64, 512), Spans: make([]api.Span, 16)}) {
+		if !testheap.Same(w.h, api.Heap{Words: make([]uint64, 512), Spans: make([]api.Span, 16)}) {
 			t.Errorf("class %d: %+v isn't as a new heap", c, w.h)
 		}
 	}
@@ -564,7 +532,7 @@ var calls = []struct {
 // TestHandedInStays is of P7.5: no call, done or refused, changes a heap or the room behind its lists.
 func TestHandedInStays(t *testing.T) {
 	for i, h := range forms() {
-		was := kept(h)
+		was := testheap.Kept(h)
 		for at := -2; at <= 520; at++ {
 			heap.Find(h, at)
 			heap.Free(h, at)
@@ -578,19 +546,9 @@ func TestHandedInStays(t *testing.T) {
 		}
 		heap.Form(h)
 		heap.Used(h)
-		if !untouched(h, was) {
+		if !testheap.Untouched(h, was) {
 			t.Errorf("form %d: %+v, that was %+v", i, h, was)
 		}
-	}
-}
-
-// scrawl writes over all of a heap's lists, and the room behind them.
-func scrawl(h api.Heap) {
-	for i := range whole(h.Words) {
-		whole(h.Words)[i] = 99
-	}
-	for i := range whole(h.Spans) {
-		whole(h.Spans)[i] = api.Span{State: 9, Class: 9, Free: 9}
 	}
 }
 
@@ -598,27 +556,14 @@ func scrawl(h api.Heap) {
 // what a call leaves as it was is new too.
 func TestAnsweredIsNew(t *testing.T) {
 	for _, x := range calls {
-		h := mixed()
-		was := kept(h)
-		one, ok := x.call(h)
-		two, again := x.call(h)
-		if !ok || !again {
-			t.Fatalf("%s: false", x.name)
-		}
-		want := kept(two)
-		scrawl(one)
-		if !untouched(h, was) || !same(two, want) {
-			t.Errorf("%s: the answer shares memory", x.name)
-		}
-		scrawl(h)
-		if !same(two, want) {
-			t.Errorf("%s: the answer shares memory with what was handed in", x.name)
+		if !testheap.OfNewMemory(mixed(), x.call) {
+			t.Errorf("%s: not done, or the answer shares memory", x.name)
 		}
 	}
 	one, _ := heap.New(2)
 	two, _ := heap.New(2)
-	scrawl(one)
-	if !same(two, api.Heap{Words: make([]uint64, 64), Spans: make([]api.Span, 2)}) {
+	testheap.Scrawl(one)
+	if !testheap.Same(two, api.Heap{Words: make([]uint64, 64), Spans: make([]api.Span, 2)}) {
 		t.Errorf("New: %+v isn't new", two)
 	}
 }
@@ -633,7 +578,7 @@ func FuzzWalk(f *testing.F) {
 	f.Fuzz(func(t *testing.T, pages int, turns []byte) {
 		h, e := heap.New(pages)
 		if pages < 1 || pages > 16 {
-			if e != api.ErrArg || !same(h, api.Heap{}) {
+			if e != api.ErrArg || !testheap.Same(h, api.Heap{}) {
 				t.Errorf("New(%d): %+v, %d", pages, h, e)
 			}
 			return
