@@ -472,11 +472,7 @@ func TestObjectsLieApart(t *testing.T) {
 	for _, pages := range []int{1, 2, 3, 7, 16} {
 		h, _ := heap.New(pages)
 		w := &walk{t: t, h: h}
-		n := uint32(pages)
-		next := func(below int) int {
-			n = n*1664525 + 1013904223
-			return int(n >> 16 % uint32(below))
-		}
+		next := testheap.Numbers(pages)
 		most := 0
 		for mark := range uint64(4000) {
 			what, a, b := next(8), next(pages+1), next(18)-1

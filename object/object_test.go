@@ -11,12 +11,6 @@ import (
 	"flotsam/testheap"
 )
 
-// wordsOf and blocksOf are what chapter 4 says of each class; a block has room for its words but one.
-var (
-	wordsOf  = []int{2, 4, 8, 16}
-	blocksOf = []int{16, 8, 4, 2}
-)
-
 // wrongValues may not be (chapter 1).
 var wrongValues = []api.Value{
 	{Kind: api.Nil, N: 1}, {Kind: api.Nil, N: -1}, {Kind: api.Int, N: -1}, {Kind: api.Int, N: math.MinInt},
@@ -35,21 +29,10 @@ var numbered = []struct {
 func ref(n int) api.Value     { return api.Value{Kind: api.Ref, N: n} }
 func integer(n int) api.Value { return api.Value{Kind: api.Int, N: n} }
 
-// heapOf answers a heap of these spans, all words 0, with room behind both lists that looks like objects and their span.
-func heapOf(spans ...api.Span) api.Heap {
-	return api.Heap{
-		Words: testheap.WithRoom(make([]uint64, 32*len(spans)), 128),
-		Spans: testheap.WithRoom(spans, api.Span{State: api.SpanClean, Class: 0, Free: 1}),
-	}
-}
-
-// write puts words into a heap's, from an address on.
-func write(h api.Heap, at int, words ...uint64) { copy(h.Words[at:], words) }
-
 // mixed answers a heap, written out by hand, of objects that lie apart and of such as don't, of headers that are none,
 // and of pages of all kinds; its sense is true.
 func mixed() api.Heap {
-	h := heapOf(
+	h := testheap.Blank(
 		api.Span{State: api.SpanClean, Class: 0, Free: 0xfffa},
 		api.Span{},
 		api.Span{State: api.SpanClean, Class: 1, Free: 0xf0},
@@ -57,26 +40,26 @@ func mixed() api.Heap {
 		api.Span{State: api.SpanClean, Class: 3, Free: 2},
 	)
 	h.Sense = true
-	write(h, 0, 129, 3)                      // a field: Int 1
-	write(h, 2, 128, 77)                     // no field, in a free block
-	write(h, 4, 193, 6)                      // black; Ref 2
-	write(h, 6, 65, 2)                       // not Used
-	write(h, 8, 130, 2)                      // more fields than its class has room for
-	write(h, 10, 129+256, 2)                 // a bit too many
-	write(h, 12, 1<<63+129, 2)               // again
-	write(h, 24, 166, 0)                     // class 2, 6 fields, to the word 30
-	write(h, 26, 165, 4, 183, 91, 230, 1)    // class 2, 5 fields, to the page's last word, over other blocks
-	write(h, 32, 129, 2)                     // in a free page
-	write(h, 64, 147, 0, 11, 130)            // 3 fields: Nil, Int 5, Ref 64
-	write(h, 68, 209, 138)                   // black; Ref 68
-	write(h, 80, 191, 2, 2, 2, 187, 0, 8, 2) // class 3, 15 fields, to the page's last word; at 84 class 3, 11 fields, to it too
-	write(h, 88, 188, 6, 0, 0, 147, 2, 4, 6) // 12 fields, past the page's last word; at 92 3 fields, to it
-	write(h, 96, 167, 2, 4, 2, 0, 1, 3, 1024)
-	write(h, 112, 232)                       // black, 8 fields are too many of class 2
-	write(h, 120, 224, 2)                    // black, no field
-	write(h, 128, 189, 1<<63+2, 1<<63+3, 66) // class 3, 13 fields, great ones
-	write(h, 144, 255)                       // black, 15 fields, to the heap's last word
-	write(h, 159, 66)                        // the last of these: Ref 32
+	testheap.Write(h, 0, 129, 3)                      // a field: Int 1
+	testheap.Write(h, 2, 128, 77)                     // no field, in a free block
+	testheap.Write(h, 4, 193, 6)                      // black; Ref 2
+	testheap.Write(h, 6, 65, 2)                       // not Used
+	testheap.Write(h, 8, 130, 2)                      // more fields than its class has room for
+	testheap.Write(h, 10, 129+256, 2)                 // a bit too many
+	testheap.Write(h, 12, 1<<63+129, 2)               // again
+	testheap.Write(h, 24, 166, 0)                     // class 2, 6 fields, to the word 30
+	testheap.Write(h, 26, 165, 4, 183, 91, 230, 1)    // class 2, 5 fields, to the page's last word, over other blocks
+	testheap.Write(h, 32, 129, 2)                     // in a free page
+	testheap.Write(h, 64, 147, 0, 11, 130)            // 3 fields: Nil, Int 5, Ref 64
+	testheap.Write(h, 68, 209, 138)                   // black; Ref 68
+	testheap.Write(h, 80, 191, 2, 2, 2, 187, 0, 8, 2) // class 3, 15 fields, to the page's last word; at 84 class 3, 11 fields, to it too
+	testheap.Write(h, 88, 188, 6, 0, 0, 147, 2, 4, 6) // 12 fields, past the page's last word; at 92 3 fields, to it
+	testheap.Write(h, 96, 167, 2, 4, 2, 0, 1, 3, 1024)
+	testheap.Write(h, 112, 232)                       // black, 8 fields are too many of class 2
+	testheap.Write(h, 120, 224, 2)                    // black, no field
+	testheap.Write(h, 128, 189, 1<<63+2, 1<<63+3, 66) // class 3, 13 fields, great ones
+	testheap.Write(h, 144, 255)                       // black, 15 fields, to the heap's last word
+	testheap.Write(h, 159, 66)                        // the last of these: Ref 32
 	return h
 }
 
@@ -95,7 +78,7 @@ func crowded() api.Heap {
 	for i := range spans {
 		spans[i] = api.Span{State: 1 + i/4%2, Class: i % 4, Free: uint32(i) % 4}
 	}
-	h := heapOf(spans...)
+	h := testheap.Blank(spans...)
 	for at := range h.Words {
 		h.Words[at] = 128 + uint64(at)*37%131
 	}
@@ -104,27 +87,11 @@ func crowded() api.Heap {
 
 // forms are heaps that have their form, of one sense and the other.
 func forms() []api.Heap {
-	one := heapOf(api.Span{State: api.SpanDirty, Class: 3, Free: 3})
-	write(one, 16, 191, 1, 2, 3)
+	one := testheap.Blank(api.Span{State: api.SpanDirty, Class: 3, Free: 3})
+	testheap.Write(one, 16, 191, 1, 2, 3)
 	other := mixed()
 	other.Sense = false
-	return []api.Heap{heapOf(api.Span{}), one, mixed(), other, crowded(), heapOf(make([]api.Span, api.MaxPages)...)}
-}
-
-// headerAt answers, by the chapters' words, the header of the object that is at an address; not Used, if none is.
-func headerAt(h api.Heap, at int) api.Header {
-	if at < 0 || at >= len(h.Words) || h.Spans[at/32].State == api.SpanFree || at%wordsOf[h.Spans[at/32].Class] != 0 {
-		return api.Header{}
-	}
-	w := h.Words[at]
-	if w < 128 || w > 255 {
-		return api.Header{}
-	}
-	x := api.Header{Used: true, Colour: w >= 192, Class: int(w % 64 / 16), Count: int(w % 16)}
-	if x.Count > wordsOf[x.Class]-1 || (at+x.Count)/32 != at/32 {
-		return api.Header{}
-	}
-	return x
+	return []api.Heap{testheap.Blank(api.Span{}), one, mixed(), other, crowded(), testheap.Blank(make([]api.Span, api.MaxPages)...)}
 }
 
 // valueOf answers the value whose word w is.
@@ -209,18 +176,18 @@ func TestNoGet(t *testing.T) {
 // TestGetOfEachWord is of P8.1: whatever word stands at whatever address of a page of whatever class; in the last page the
 // fields may not lead out of the arena either.
 func TestGetOfEachWord(t *testing.T) {
-	for c := range wordsOf {
+	for c := range api.Classes {
 		for state := api.SpanFree; state <= api.SpanDirty; state++ {
 			s := api.Span{State: state, Class: c, Free: 1}
 			if state == api.SpanFree {
 				s = api.Span{}
 			}
-			h := heapOf(s, api.Span{State: api.SpanClean, Class: 0, Free: 0xffff}, s)
+			h := testheap.Blank(s, api.Span{State: api.SpanClean, Class: 0, Free: 0xffff}, s)
 			for at := range h.Words {
 				for w := range uint64(520) {
 					for _, high := range []uint64{0, 1 << 16, 1 << 32, 1 << 63} {
 						h.Words[at] = high + w
-						want := headerAt(h, at)
+						want := testheap.HeaderAt(h, at)
 						if got, ok := object.Get(h, at); got != want || ok != want.Used {
 							t.Fatalf("span %+v, the word %d at %d: %+v, %t; not %+v", s, h.Words[at], at, got, ok, want)
 						}
@@ -265,7 +232,7 @@ func TestFieldEverywhere(t *testing.T) {
 	for n, h := range forms() {
 		for _, at := range addresses(h) {
 			for _, i := range fieldNumbers() {
-				want, v := wantError(headerAt(h, at), i), api.Value{}
+				want, v := wantError(testheap.HeaderAt(h, at), i), api.Value{}
 				if want == api.OK {
 					v = valueOf(h.Words[at+1+i])
 				}
@@ -281,7 +248,7 @@ func TestFieldEverywhere(t *testing.T) {
 func TestSet(t *testing.T) {
 	h := mixed()
 	for _, at := range listed {
-		for i := range headerAt(h, at).Count {
+		for i := range testheap.HeaderAt(h, at).Count {
 			for _, x := range numbered {
 				want := testheap.Kept(h)
 				want.Words[at+1+i] = x.w
@@ -298,9 +265,9 @@ func TestSetErrors(t *testing.T) {
 	values := append([]api.Value{{}, integer(5), ref(0), ref(math.MaxInt - 1)}, wrongValues...)
 	for n, h := range forms() {
 		for _, at := range addresses(h) {
-			for _, i := range append([]int{-1, 0, 1, 3, 7, 14, 15, 16, 31}, headerAt(h, at).Count, headerAt(h, at).Count-1) {
+			for _, i := range append([]int{-1, 0, 1, 3, 7, 14, 15, 16, 31}, testheap.HeaderAt(h, at).Count, testheap.HeaderAt(h, at).Count-1) {
 				for _, v := range values {
-					want := wantError(headerAt(h, at), i)
+					want := wantError(testheap.HeaderAt(h, at), i)
 					if want == api.OK && slices.Contains(wrongValues, v) {
 						want = api.ErrArg
 					}
@@ -359,7 +326,7 @@ func TestBlack(t *testing.T) {
 func TestPaint(t *testing.T) {
 	for n, h := range forms() {
 		for _, at := range addresses(h) {
-			want, x := testheap.Kept(h), headerAt(h, at)
+			want, x := testheap.Kept(h), testheap.HeaderAt(h, at)
 			if x.Used && x.Colour && !h.Sense {
 				want.Words[at] -= 64
 			}
@@ -401,7 +368,7 @@ func TestList(t *testing.T) {
 			t.Errorf("List: %v, not %v", l, listed)
 		}
 	}
-	for _, h := range []api.Heap{heapOf(api.Span{}), heapOf(api.Span{State: api.SpanClean, Class: 0}), heapOf(make([]api.Span, 16)...)} {
+	for _, h := range []api.Heap{testheap.Blank(api.Span{}), testheap.Blank(api.Span{State: api.SpanClean, Class: 0}), testheap.Blank(make([]api.Span, 16)...)} {
 		if l := object.List(h); len(l) != 0 {
 			t.Errorf("List of %+v: %v", h, l)
 		}
@@ -417,7 +384,7 @@ func TestListEverywhere(t *testing.T) {
 	for n, h := range append(forms(), full) {
 		var want []int
 		for at := range h.Words {
-			if headerAt(h, at).Used {
+			if testheap.HeaderAt(h, at).Used {
 				want = append(want, at)
 			}
 		}
@@ -446,7 +413,7 @@ func TestRefsEverywhere(t *testing.T) {
 	for n, h := range forms() {
 		for _, at := range addresses(h) {
 			var want []int
-			for i := range headerAt(h, at).Count {
+			for i := range testheap.HeaderAt(h, at).Count {
 				if v := valueOf(h.Words[at+1+i]); v.Kind == api.Ref {
 					want = append(want, v.N)
 				}
@@ -567,11 +534,7 @@ func TestWhatIsSetIsFound(t *testing.T) {
 	for _, pages := range []int{1, 2, 5, 16} {
 		h, _ := heap.New(pages)
 		w := &walk{t: t, h: h, things: map[int]thing{}}
-		n := uint32(pages)
-		next := func(below int) int {
-			n = n*1664525 + 1013904223
-			return int(n >> 16 % uint32(below))
-		}
+		next := testheap.Numbers(pages)
 		most := 0
 		for range 3000 {
 			w.turn(next(16), next(pages+1), next(18)-1, next(17)-1)
@@ -587,7 +550,7 @@ func TestWhatIsSetIsFound(t *testing.T) {
 func TestWhatIsSetIsFoundAnywhere(t *testing.T) {
 	for n, h := range forms() {
 		for _, at := range object.List(h) {
-			for i := range headerAt(h, at).Count {
+			for i := range testheap.HeaderAt(h, at).Count {
 				for _, x := range numbered {
 					set, _ := object.Set(h, at, i, x.v)
 					if v, e := object.Field(set, at, i); v != x.v || e != api.OK {
@@ -683,12 +646,12 @@ func FuzzWords(f *testing.F) {
 			return
 		}
 		s := api.Span{State: 1 + int(b[0])%2, Class: int(b[0]) / 2 % 4}
-		h := heapOf(s, api.Span{}, s)
+		h := testheap.Blank(s, api.Span{}, s)
 		h.Sense = b[0]&8 != 0
 		for n, w := range b[1:min(len(b), 97)] {
 			h.Words[n] = uint64(w)
 		}
-		x := headerAt(h, at)
+		x := testheap.HeaderAt(h, at)
 		if got, ok := object.Get(h, at); got != x || ok != x.Used {
 			t.Fatalf("Get(h, %d): %+v, %t; not %+v", at, got, ok, x)
 		}
