@@ -10,16 +10,8 @@ import (
 	"flotsam/testheap"
 )
 
-// filler is behind the length of lists that are handed in: an item that may be.
-const filler = 77
-
 // pushed are items that may be: 0 is what is answered where there is none.
 var pushed = []int{0, 1, 2, 31, 32, 511, 512, 1 << 32, math.MaxInt32, math.MaxInt - 1, math.MaxInt}
-
-// rowOf answers a row of so much room, of those items, with room behind its list.
-func rowOf(room int, items ...int) api.Grey {
-	return api.Grey{Room: room, Items: testheap.WithRoom(items, filler)}
-}
 
 // someItems are n of them, that fall and come again.
 func someItems(n int) []int {
@@ -35,36 +27,13 @@ func rightRows() []api.Grey {
 	rows := []api.Grey{{}, {Room: 16}, {Items: []int{}}, {Room: 5, Items: []int{}}}
 	for room := range 17 {
 		for n := range room + 1 {
-			rows = append(rows, rowOf(room, someItems(n)...))
+			rows = append(rows, testheap.Row(room, someItems(n)...))
 		}
 	}
 	for _, at := range pushed {
-		rows = append(rows, rowOf(1, at), rowOf(2, at), rowOf(16, at, at, 3, at))
+		rows = append(rows, testheap.Row(1, at), testheap.Row(2, at), testheap.Row(16, at, at, 3, at))
 	}
 	return rows
-}
-
-// same tells whether two rows are the same, their lists item by item.
-func same(a, b api.Grey) bool {
-	return a.Room == b.Room && slices.Equal(a.Items, b.Items)
-}
-
-// kept answers a row as g is, of memory of its own, with the room behind its list.
-func kept(g api.Grey) api.Grey {
-	items := slices.Clone(testheap.Whole(g.Items))
-	return api.Grey{Room: g.Room, Items: items[:len(g.Items):len(items)]}
-}
-
-// untouched tells whether g is as it was kept, the room behind its list included.
-func untouched(g, was api.Grey) bool {
-	return same(g, was) && slices.Equal(testheap.Whole(g.Items), testheap.Whole(was.Items))
-}
-
-// scrawl writes over all of a row's list, and the room behind it.
-func scrawl(g api.Grey) {
-	for i := range testheap.Whole(g.Items) {
-		testheap.Whole(g.Items)[i] = -99
-	}
 }
 
 // mustPush fails, if Push answers anything else than the row with that at its end, where there is room; it answers the row.
@@ -75,7 +44,7 @@ func mustPush(t *testing.T, g api.Grey, at int) api.Grey {
 		want.Items = append(slices.Clone(g.Items), at)
 	}
 	n, ok := grey.Push(g, at)
-	if ok != can || !same(n, want) {
+	if ok != can || !testheap.SameRow(n, want) {
 		t.Fatalf("Push(%+v, %d): %+v, %t; not %+v, %t", g, at, n, ok, want, can)
 	}
 	return n
@@ -89,7 +58,7 @@ func mustPop(t *testing.T, g api.Grey) api.Grey {
 		want.Items, last = g.Items[:len(g.Items)-1], g.Items[len(g.Items)-1]
 	}
 	n, at, ok := grey.Pop(g)
-	if ok != can || at != last || !same(n, want) {
+	if ok != can || at != last || !testheap.SameRow(n, want) {
 		t.Fatalf("Pop(%+v): %+v, %d, %t; not %+v, %d, %t", g, n, at, ok, want, last, can)
 	}
 	return n
@@ -102,18 +71,18 @@ func TestExample(t *testing.T) {
 		t.Fatal("New(1): false")
 	}
 	g, ok = grey.Push(g, 5)
-	if !ok || !same(g, rowOf(1, 5)) {
+	if !ok || !testheap.SameRow(g, testheap.Row(1, 5)) {
 		t.Errorf("Push 5: %+v, %t", g, ok)
 	}
 	g, ok = grey.Push(g, 6)
-	if ok || !same(g, rowOf(1, 5)) {
+	if ok || !testheap.SameRow(g, testheap.Row(1, 5)) {
 		t.Errorf("Push 6: %+v, %t", g, ok)
 	}
 }
 
 // TestRight is of P13.1: rooms of 0 to 16, as many items as that or fewer, each 0 or above, also more than once.
 func TestRight(t *testing.T) {
-	for _, g := range append(rightRows(), rowOf(2, 0, 0), rowOf(3, 9, 4, 9), rowOf(16, 15, 14, 13, 12, 11, 10, 9, 8, 7, 6, 5, 4, 3, 2, 1, 0)) {
+	for _, g := range append(rightRows(), testheap.Row(2, 0, 0), testheap.Row(3, 9, 4, 9), testheap.Row(16, 15, 14, 13, 12, 11, 10, 9, 8, 7, 6, 5, 4, 3, 2, 1, 0)) {
 		if !grey.Right(g) {
 			t.Errorf("Right(%+v): false", g)
 		}
@@ -124,7 +93,7 @@ func TestRight(t *testing.T) {
 func TestWrongRoom(t *testing.T) {
 	for _, room := range append([]int{17, 18, 20, 32, 256, 256 + 1, 256 + 16}, testheap.Far()...) {
 		for _, n := range []int{0, 1, 2, 16, 17} {
-			if g := rowOf(room, someItems(n)...); grey.Right(g) {
+			if g := testheap.Row(room, someItems(n)...); grey.Right(g) {
 				t.Errorf("Right(%+v): true", g)
 			}
 		}
@@ -138,7 +107,7 @@ func TestWrongRoom(t *testing.T) {
 func TestTooManyItems(t *testing.T) {
 	for room := range 17 {
 		for _, n := range []int{room + 1, room + 2, room + 16, room + 256, room + 1<<16} {
-			if grey.Right(rowOf(room, someItems(n)...)) {
+			if grey.Right(testheap.Row(room, someItems(n)...)) {
 				t.Errorf("Right of %d items, of the room %d: true", n, room)
 			}
 		}
@@ -152,7 +121,7 @@ func TestItemsBelowNought(t *testing.T) {
 			for _, at := range []int{-1, -2, -32, -512, -1 << 32, math.MinInt32, math.MinInt, math.MinInt + 1} {
 				items := someItems(n)
 				items[place] = at
-				if grey.Right(rowOf(n, items...)) || grey.Right(rowOf(16, items...)) {
+				if grey.Right(testheap.Row(n, items...)) || grey.Right(testheap.Row(16, items...)) {
 					t.Errorf("Right of %v: true", items)
 				}
 			}
@@ -173,7 +142,7 @@ func TestNothingBehindCounts(t *testing.T) {
 // TestNew is of P13.1: rows of each room, without items, that are right.
 func TestNew(t *testing.T) {
 	for room := range 17 {
-		if g, ok := grey.New(room); !ok || !same(g, api.Grey{Room: room}) || !grey.Right(g) {
+		if g, ok := grey.New(room); !ok || !testheap.SameRow(g, api.Grey{Room: room}) || !grey.Right(g) {
 			t.Errorf("New(%d): %+v, %t", room, g, ok)
 		}
 	}
@@ -182,7 +151,7 @@ func TestNew(t *testing.T) {
 // TestNewOfWrongRoom is of P13.1: Grey{} and false.
 func TestNewOfWrongRoom(t *testing.T) {
 	for _, room := range append([]int{17, 18, 20, 32, 256, 256 + 1, 256 + 16}, testheap.Far()...) {
-		if g, ok := grey.New(room); ok || !same(g, api.Grey{}) {
+		if g, ok := grey.New(room); ok || !testheap.SameRow(g, api.Grey{}) {
 			t.Errorf("New(%d): %+v, %t", room, g, ok)
 		}
 	}
@@ -195,15 +164,15 @@ func TestPush(t *testing.T) {
 		at   int
 		want []int
 	}{
-		{rowOf(1), 0, []int{0}},
-		{rowOf(16), 7, []int{7}},
-		{rowOf(2, 7), 0, []int{7, 0}},
-		{rowOf(3, 7, 0), 9, []int{7, 0, 9}},
-		{rowOf(4, 5, 5), 5, []int{5, 5, 5}},
-		{rowOf(3, 9, 8), math.MaxInt, []int{9, 8, math.MaxInt}},
-		{rowOf(16, 1, 2, 3, 4, 5, 6, 7, 8, 9, 10, 11, 12, 13, 14, 15), 16, []int{1, 2, 3, 4, 5, 6, 7, 8, 9, 10, 11, 12, 13, 14, 15, 16}},
+		{testheap.Row(1), 0, []int{0}},
+		{testheap.Row(16), 7, []int{7}},
+		{testheap.Row(2, 7), 0, []int{7, 0}},
+		{testheap.Row(3, 7, 0), 9, []int{7, 0, 9}},
+		{testheap.Row(4, 5, 5), 5, []int{5, 5, 5}},
+		{testheap.Row(3, 9, 8), math.MaxInt, []int{9, 8, math.MaxInt}},
+		{testheap.Row(16, 1, 2, 3, 4, 5, 6, 7, 8, 9, 10, 11, 12, 13, 14, 15), 16, []int{1, 2, 3, 4, 5, 6, 7, 8, 9, 10, 11, 12, 13, 14, 15, 16}},
 	} {
-		if n, ok := grey.Push(x.g, x.at); !ok || !same(n, api.Grey{Room: x.g.Room, Items: x.want}) {
+		if n, ok := grey.Push(x.g, x.at); !ok || !testheap.SameRow(n, api.Grey{Room: x.g.Room, Items: x.want}) {
 			t.Errorf("Push(%+v, %d): %+v, %t; not %v, true", x.g, x.at, n, ok, x.want)
 		}
 	}
@@ -226,11 +195,11 @@ func TestPushIsRefused(t *testing.T) {
 		g  api.Grey
 		at int
 	}{
-		{api.Grey{}, 0}, {api.Grey{}, 5}, {api.Grey{}, -1}, {rowOf(0), 0}, {rowOf(1, 5), 6}, {rowOf(1, 5), 5}, {rowOf(1, 5), -6},
-		{rowOf(3, 7, 0, 9), 4}, {rowOf(16, someItems(16)...), 0}, {rowOf(16, someItems(16)...), math.MaxInt},
-		{rowOf(1), -1}, {rowOf(16), math.MinInt}, {rowOf(3, 7, 0), -1}, {rowOf(16, someItems(15)...), -32},
+		{api.Grey{}, 0}, {api.Grey{}, 5}, {api.Grey{}, -1}, {testheap.Row(0), 0}, {testheap.Row(1, 5), 6}, {testheap.Row(1, 5), 5}, {testheap.Row(1, 5), -6},
+		{testheap.Row(3, 7, 0, 9), 4}, {testheap.Row(16, someItems(16)...), 0}, {testheap.Row(16, someItems(16)...), math.MaxInt},
+		{testheap.Row(1), -1}, {testheap.Row(16), math.MinInt}, {testheap.Row(3, 7, 0), -1}, {testheap.Row(16, someItems(15)...), -32},
 	} {
-		if n, ok := grey.Push(x.g, x.at); ok || !same(n, x.g) {
+		if n, ok := grey.Push(x.g, x.at); ok || !testheap.SameRow(n, x.g) {
 			t.Errorf("Push(%+v, %d): %+v, %t", x.g, x.at, n, ok)
 		}
 	}
@@ -243,15 +212,15 @@ func TestPop(t *testing.T) {
 		want []int
 		at   int
 	}{
-		{rowOf(1, 5), nil, 5},
-		{rowOf(16, 0), nil, 0},
-		{rowOf(2, 3, 0), []int{3}, 0},
-		{rowOf(3, 7, 0, 9), []int{7, 0}, 9},
-		{rowOf(4, 5, 5, 5), []int{5, 5}, 5},
-		{rowOf(3, 9, math.MaxInt), []int{9}, math.MaxInt},
-		{rowOf(16, 1, 2, 3, 4, 5, 6, 7, 8, 9, 10, 11, 12, 13, 14, 15, 16), []int{1, 2, 3, 4, 5, 6, 7, 8, 9, 10, 11, 12, 13, 14, 15}, 16},
+		{testheap.Row(1, 5), nil, 5},
+		{testheap.Row(16, 0), nil, 0},
+		{testheap.Row(2, 3, 0), []int{3}, 0},
+		{testheap.Row(3, 7, 0, 9), []int{7, 0}, 9},
+		{testheap.Row(4, 5, 5, 5), []int{5, 5}, 5},
+		{testheap.Row(3, 9, math.MaxInt), []int{9}, math.MaxInt},
+		{testheap.Row(16, 1, 2, 3, 4, 5, 6, 7, 8, 9, 10, 11, 12, 13, 14, 15, 16), []int{1, 2, 3, 4, 5, 6, 7, 8, 9, 10, 11, 12, 13, 14, 15}, 16},
 	} {
-		if n, at, ok := grey.Pop(x.g); !ok || at != x.at || !same(n, api.Grey{Room: x.g.Room, Items: x.want}) {
+		if n, at, ok := grey.Pop(x.g); !ok || at != x.at || !testheap.SameRow(n, api.Grey{Room: x.g.Room, Items: x.want}) {
 			t.Errorf("Pop(%+v): %+v, %d, %t; not %v, %d, true", x.g, n, at, ok, x.want, x.at)
 		}
 	}
@@ -272,8 +241,8 @@ func TestPopOfAll(t *testing.T) {
 // TestPopOfNone is of P13.2: g, 0 and false, whatever lies behind the row's length.
 func TestPopOfNone(t *testing.T) {
 	for room := range 17 {
-		for _, g := range []api.Grey{{Room: room}, {Room: room, Items: []int{}}, rowOf(room)} {
-			if n, at, ok := grey.Pop(g); ok || at != 0 || !same(n, g) {
+		for _, g := range []api.Grey{{Room: room}, {Room: room, Items: []int{}}, testheap.Row(room)} {
+			if n, at, ok := grey.Pop(g); ok || at != 0 || !testheap.SameRow(n, g) {
 				t.Errorf("Pop(%+v): %+v, %d, %t", g, n, at, ok)
 			}
 		}
@@ -295,7 +264,7 @@ func TestLastPushedIsFirstPopped(t *testing.T) {
 			}
 			g = n
 		}
-		if n, at, ok := grey.Pop(g); ok || at != 0 || !same(n, api.Grey{Room: room}) {
+		if n, at, ok := grey.Pop(g); ok || at != 0 || !testheap.SameRow(n, api.Grey{Room: room}) {
 			t.Fatalf("room %d: Pop of nothing: %+v, %d, %t", room, n, at, ok)
 		}
 	}
@@ -309,7 +278,7 @@ func TestPushedIsPopped(t *testing.T) {
 			if !ok {
 				continue
 			}
-			if back, last, ok := grey.Pop(n); !ok || last != at || !same(back, g) {
+			if back, last, ok := grey.Pop(n); !ok || last != at || !testheap.SameRow(back, g) {
 				t.Fatalf("%+v: %d was pushed, %d popped, %t: %+v", g, at, last, ok, back)
 			}
 		}
@@ -345,7 +314,7 @@ func walk(t *testing.T, room int, steps []int) {
 			}
 			g = n
 		}
-		if !same(g, api.Grey{Room: room, Items: order}) || !grey.Right(g) {
+		if !testheap.SameRow(g, api.Grey{Room: room, Items: order}) || !grey.Right(g) {
 			t.Fatalf("step %d: %+v, not %v", i, g, order)
 		}
 	}
@@ -370,19 +339,19 @@ func branch(t *testing.T, g api.Grey, deep int) {
 	if deep == 0 {
 		return
 	}
-	was := kept(g)
+	was := testheap.KeptRow(g)
 	one, two, less := mustPush(t, g, 2*deep), mustPush(t, g, 2*deep+1), mustPop(t, g)
 	nexts := []api.Grey{one, two, less}
-	keep := []api.Grey{kept(one), kept(two), kept(less)}
+	keep := []api.Grey{testheap.KeptRow(one), testheap.KeptRow(two), testheap.KeptRow(less)}
 	for _, n := range nexts {
 		branch(t, n, deep-1)
 	}
 	for i, n := range nexts {
-		if !same(n, keep[i]) {
+		if !testheap.SameRow(n, keep[i]) {
 			t.Fatalf("%+v, that was %+v", n, keep[i])
 		}
 	}
-	if !untouched(g, was) {
+	if !testheap.UntouchedRow(g, was) {
 		t.Fatalf("%+v, that was %+v", testheap.Whole(g.Items), testheap.Whole(was.Items))
 	}
 }
@@ -392,22 +361,22 @@ func TestRowsThatGrowFromOne(t *testing.T) {
 	for _, room := range []int{0, 1, 2, 3, 5, 16} {
 		g, _ := grey.New(room)
 		branch(t, g, 7)
-		branch(t, rowOf(room), 5)
-		branch(t, rowOf(room, someItems(room/2)...), 6)
-		branch(t, rowOf(room, someItems(room)...), 5)
+		branch(t, testheap.Row(room), 5)
+		branch(t, testheap.Row(room, someItems(room/2)...), 6)
+		branch(t, testheap.Row(room, someItems(room)...), 5)
 	}
 }
 
 // TestStays is of P13.4: no call changes a row, or the room behind its list.
 func TestStays(t *testing.T) {
 	for _, g := range rightRows() {
-		was := kept(g)
+		was := testheap.KeptRow(g)
 		grey.Right(g)
 		for _, at := range []int{-1, 0, 5, math.MaxInt} {
 			grey.Push(g, at)
 		}
 		grey.Pop(g)
-		if !untouched(g, was) {
+		if !testheap.UntouchedRow(g, was) {
 			t.Fatalf("%+v: became %+v", testheap.Whole(was.Items), testheap.Whole(g.Items))
 		}
 	}
@@ -423,20 +392,20 @@ func TestNewMemory(t *testing.T) {
 	}
 	for i, call := range []func(api.Grey) (api.Grey, bool){push, pop} {
 		for _, g := range rightRows() {
-			g = kept(g)
-			was := kept(g)
+			g = testheap.KeptRow(g)
+			was := testheap.KeptRow(g)
 			one, ok := call(g)
 			if !ok {
 				continue
 			}
 			two, _ := call(g)
-			want := kept(two)
-			scrawl(one)
-			if !untouched(g, was) || !same(two, want) {
+			want := testheap.KeptRow(two)
+			testheap.ScrawlRow(one)
+			if !testheap.UntouchedRow(g, was) || !testheap.SameRow(two, want) {
 				t.Fatalf("call %d of %+v: written into its answer: %+v, and %+v", i, was, g, two)
 			}
-			scrawl(g)
-			if !same(two, want) {
+			testheap.ScrawlRow(g)
+			if !testheap.SameRow(two, want) {
 				t.Fatalf("call %d of %+v: written into that: %+v", i, was, two)
 			}
 		}
@@ -471,7 +440,7 @@ func FuzzGrey(f *testing.F) {
 			return out
 		}
 		is := room >= 0 && room <= 16
-		g := rowOf(room, numbers(items)...)
+		g := testheap.Row(room, numbers(items)...)
 		right := is && len(g.Items) <= room && !slices.ContainsFunc(g.Items, func(at int) bool { return at < 0 })
 		if grey.Right(g) != right {
 			t.Fatalf("Right(%+v): not %t", g, right)
@@ -480,7 +449,7 @@ func FuzzGrey(f *testing.F) {
 		if is {
 			want.Room = room
 		}
-		if n, ok := grey.New(room); ok != is || !same(n, want) {
+		if n, ok := grey.New(room); ok != is || !testheap.SameRow(n, want) {
 			t.Fatalf("New(%d): %+v, %t", room, n, ok)
 		}
 		if is {

@@ -32,7 +32,7 @@ func refsTo(to ...int) []api.Value {
 }
 
 // wordOf answers the word of a Ref to an address.
-func wordOf(at int) uint64 { return uint64(2 * (at + 1)) }
+var wordOf = testheap.RefTo
 
 // span answers a span in use of a class, in which nothing is free.
 func span(class int) api.Span { return api.Span{State: api.SpanClean, Class: class} }
@@ -525,13 +525,13 @@ func TestLeastClosed(t *testing.T) {
 func TestOnceMore(t *testing.T) {
 	for seed := range 200 {
 		number := testheap.Numbers(seed)
-		h := anyHeap(number, 1+seed%16)
-		vs := anyValues(number, h)
+		h := testheap.AnyHeap(number, 1+seed%16)
+		vs := testheap.AnyValues(number, h)
 		l := mustReach(t, h, vs)
 		if again := reach.From(h, refsTo(l...)); !slices.Equal(again, l) {
 			t.Fatalf("seed %d: from %v: %v", seed, l, again)
 		}
-		more := mustReach(t, h, append(slices.Clone(vs), anyValues(number, h)...))
+		more := mustReach(t, h, append(slices.Clone(vs), testheap.AnyValues(number, h)...))
 		for _, at := range l {
 			if !slices.Contains(more, at) {
 				t.Fatalf("seed %d: from more values: %v, without %d", seed, more, at)
@@ -540,46 +540,14 @@ func TestOnceMore(t *testing.T) {
 	}
 }
 
-// anyHeap answers a heap of so many pages of each kind, with words in it that are headers and Refs more often than not.
-func anyHeap(number func(int) int, pages int) api.Heap {
-	spans := make([]api.Span, pages)
-	for i := range spans {
-		if number(5) > 0 {
-			spans[i] = api.Span{State: 1 + number(2), Class: number(api.Classes)}
-		}
-	}
-	h := testheap.Blank(spans...)
-	h.Sense = number(2) == 1
-	for at := range h.Words {
-		w := uint64(number(270))
-		if number(3) > 0 {
-			w = wordOf(number(len(h.Words) + 8))
-		}
-		if s := spans[at/32]; number(4) > 0 && at%testheap.WordsOf(s.Class) == 0 {
-			w = uint64(128 + 64*number(2) + 16*s.Class + number(testheap.WordsOf(s.Class)))
-		}
-		h.Words[at] = w
-	}
-	return h
-}
-
-// anyValues answers a few values, most of them Refs into the heap.
-func anyValues(number func(int) int, h api.Heap) []api.Value {
-	var vs []api.Value
-	for range number(4) {
-		vs = append(vs, api.Value{Kind: []int{api.Nil, api.Int, api.Ref, api.Ref, api.Ref, 3}[number(6)], N: number(len(h.Words)+2) - 1})
-	}
-	return values(vs...)
-}
-
 // TestAnyHeaps is of P15.1 and P15.2: whatever the heap is, and whatever is asked for.
 func TestAnyHeaps(t *testing.T) {
 	for seed := range 600 {
 		number := testheap.Numbers(seed)
-		h := anyHeap(number, 1+seed%16)
+		h := testheap.AnyHeap(number, 1+seed%16)
 		mustTellBlack(t, h)
 		for range 6 {
-			l := mustReach(t, h, anyValues(number, h))
+			l := mustReach(t, h, testheap.AnyValues(number, h))
 			mustCount(t, h, l)
 			for range number(9) {
 				l = append(l, number(len(h.Words)+20)-10)
@@ -593,7 +561,7 @@ func TestAnyHeaps(t *testing.T) {
 func TestStays(t *testing.T) {
 	heaps := []api.Heap{mixed()}
 	for seed := range 20 {
-		heaps = append(heaps, anyHeap(testheap.Numbers(seed), 1+seed%16))
+		heaps = append(heaps, testheap.AnyHeap(testheap.Numbers(seed), 1+seed%16))
 	}
 	for _, h := range heaps {
 		was := testheap.Kept(h)
