@@ -23,13 +23,7 @@ func num(n int) api.Value { return api.Value{Kind: api.Int, N: n} }
 func values(vs ...api.Value) []api.Value { return testheap.WithRoom(vs, filler) }
 
 // refsTo answers Refs to those addresses, with room behind them.
-func refsTo(to ...int) []api.Value {
-	var vs []api.Value
-	for _, at := range to {
-		vs = append(vs, ref(at))
-	}
-	return values(vs...)
-}
+var refsTo = testheap.RefsTo
 
 // wordOf answers the word of a Ref to an address.
 var wordOf = testheap.RefTo
@@ -83,62 +77,10 @@ func noObjects() []int {
 	return append([]int{1, 3, 5, 6, 7, 12, 14, 25, 26, 28, 30, 31, 32, 34, 63, 65, 69, 70, 88, 97, 100, 112, 136, 145, 152, 159, 160, 161, 192}, testheap.Far()...)
 }
 
-// valueOf answers the value whose word w is.
-func valueOf(w uint64) api.Value {
-	if w%2 == 1 {
-		return num(int((w - 1) / 2))
-	}
-	if w == 0 {
-		return api.Value{}
-	}
-	return ref(int((w - 2) / 2))
-}
-
-// isObject tells whether an object is at an address.
-func isObject(h api.Heap, at int) bool { return testheap.HeaderAt(h, at).Used }
-
-// next answers, by the chapters' words alone, the objects to which some values lead at once.
-func next(h api.Heap, vs []api.Value) []int {
-	var l []int
-	for _, v := range vs {
-		if v.Kind == api.Ref && isObject(h, v.N) {
-			l = append(l, v.N)
-		}
-	}
-	return l
-}
-
-// fields answers the fields of the object at an address.
-func fields(h api.Heap, at int) []api.Value {
-	var vs []api.Value
-	for _, w := range h.Words[at+1 : at+1+testheap.HeaderAt(h, at).Count] {
-		vs = append(vs, valueOf(w))
-	}
-	return vs
-}
-
-// reached answers, by the chapters' words alone, what is reached: those at once, and, as long as there are more, those to
-// which these refer.
-func reached(h api.Heap, vs []api.Value) []int {
-	l := next(h, vs)
-	for {
-		more := slices.Clone(l)
-		for _, at := range l {
-			more = append(more, next(h, fields(h, at))...)
-		}
-		slices.Sort(more)
-		more = slices.Compact(more)
-		if slices.Equal(more, l) {
-			return l
-		}
-		l = more
-	}
-}
-
 // mustReach fails, if From answers anything else than what is reached.
 func mustReach(t *testing.T, h api.Heap, vs []api.Value) []int {
 	t.Helper()
-	want := reached(h, vs)
+	want := testheap.Reached(h, vs)
 	got := reach.From(h, vs)
 	if !slices.Equal(got, want) {
 		t.Fatalf("From(%+v, %v): %v; not %v", h, vs, got, want)
@@ -604,19 +546,8 @@ func FuzzReach(f *testing.F) {
 	f.Add([]byte{8, 5, 4, 7}, []byte{0, 191, 0, 2, 0, 66, 0, 129, 1, 2}, []byte{0, 0, 0, 32}, false)
 	f.Add([]byte{}, []byte{}, []byte{1}, false)
 	f.Fuzz(func(t *testing.T, pages, words, to []byte, sense bool) {
-		spans := []api.Span{span(1)}
-		for _, b := range pages[:min(len(pages), api.MaxPages-1)] {
-			s := api.Span{State: int(b) % 3, Class: int(b) / 4 % api.Classes, Free: uint32(b) / 64}
-			if s.State == api.SpanFree {
-				s = api.Span{}
-			}
-			spans = append(spans, s)
-		}
-		h := testheap.Blank(spans...)
+		h := testheap.OfBytes(pages, words)
 		h.Sense = sense
-		for i := range min(len(words)/2, len(h.Words)) {
-			h.Words[i] = uint64(words[2*i])<<8 + uint64(words[2*i+1])
-		}
 		var l []int
 		for p := range slices.Chunk(to, 2) {
 			l = append(l, int(int8(p[0]))<<8+int(p[len(p)-1]))

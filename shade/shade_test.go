@@ -16,58 +16,17 @@ func ref(n int) api.Value { return api.Value{Kind: api.Ref, N: n} }
 
 func num(n int) api.Value { return api.Value{Kind: api.Int, N: n} }
 
-// refsTo answers Refs to those addresses, with room behind them in which one more seems to be.
-func refsTo(to ...int) []api.Value {
-	var vs []api.Value
-	for _, at := range to {
-		vs = append(vs, ref(at))
-	}
-	return testheap.WithRoom(vs, ref(0))
-}
+// refsTo answers Refs to those addresses.
+var refsTo = testheap.RefsTo
 
-// The colour's bit of a header's word.
-const colour = 64
-
-// mixed answers a heap, written out by hand, of white and black objects, of such as don't lie apart, of headers that are
-// none, and of pages of all kinds; its sense is true.
-func mixed() api.Heap {
-	h := testheap.Blank(
-		api.Span{State: api.SpanClean, Class: 0, Free: 0xfff8},
-		api.Span{},
-		api.Span{State: api.SpanDirty, Class: 1},
-		api.Span{State: api.SpanClean, Class: 2},
-		api.Span{State: api.SpanDirty, Class: 3, Free: 2},
-	)
-	h.Sense = true
-	testheap.Write(h, 0, 129, testheap.RefTo(64))               // white
-	testheap.Write(h, 2, 193, testheap.RefTo(0))                // black
-	testheap.Write(h, 4, 128, testheap.RefTo(2))                // white, no field
-	testheap.Write(h, 6, 65, testheap.RefTo(0))                 // not Used
-	testheap.Write(h, 8, 129, testheap.RefTo(8))                // white, in a free block
-	testheap.Write(h, 10, 209, testheap.RefTo(0))               // black, of class 1
-	testheap.Write(h, 24, 166, 0, 163, 5, 163, 0, 0, 9)         // white, of class 2; at 26 and 28 such ones too
-	testheap.Write(h, 32, 129, testheap.RefTo(0))               // in a free page
-	testheap.Write(h, 64, 147, testheap.RefTo(68), 128, 129)    // white; 65 to 67 are no blocks
-	testheap.Write(h, 68, 211, testheap.RefTo(64))              // black
-	testheap.Write(h, 92, 148)                                  // too many fields for its class
-	testheap.Write(h, 96, 167, testheap.RefTo(96))              // white
-	testheap.Write(h, 104, 231, testheap.RefTo(112))            // black
-	testheap.Write(h, 120, 184, testheap.RefTo(96))             // too many fields for the page
-	testheap.Write(h, 128, 191, testheap.RefTo(144), 129, 1, 3) // white
-	testheap.Write(h, 144, 255)                                 // black, in a free block, to the heap's last word
-	return h
-}
+// mixed answers a heap of white and black objects, and of all that is none.
+var mixed = testheap.Mixed
 
 // whites are mixed's white objects, blacks its black ones: the other way round in the other sense.
-var (
-	whites = []int{0, 4, 8, 24, 26, 28, 64, 96, 128}
-	blacks = []int{2, 10, 68, 104, 144}
-)
+var whites, blacks = testheap.MixedWhites(), testheap.MixedBlacks()
 
 // noObjects are addresses of mixed at which no object is.
-func noObjects() []int {
-	return append([]int{1, 3, 5, 6, 7, 12, 25, 27, 30, 31, 32, 34, 63, 65, 66, 67, 70, 92, 112, 120, 129, 130, 159, 160, 161, 192}, testheap.Far()...)
-}
+var noObjects = testheap.MixedNoObjects
 
 // otherKinds are numbers that aren't Ref's, such as would be in fewer bits too.
 func otherKinds() []int {
@@ -124,29 +83,12 @@ func scrawl(s state) {
 	testheap.ScrawlRow(s.row)
 }
 
-// isWhite tells whether a value is Ref, and a white object is at its N.
-func isWhite(h api.Heap, v api.Value) bool {
-	if v.Kind != api.Ref {
-		return false
-	}
-	x := testheap.HeaderAt(h, v.N)
-	return x.Used && x.Colour != h.Sense
-}
-
 // shaded answers, by the chapter's words alone, what comes of values, one behind the other, and whether anything happens.
 func shaded(s state, vs []api.Value) (state, bool) {
 	n, happens := kept(s), false
 	for _, v := range vs {
-		if !isWhite(n.heap, v) {
-			continue
-		}
-		happens = true
-		n.heap.Words[v.N] ^= colour
-		if len(n.row.Items) < n.row.Room {
-			n.row.Items = append(slices.Clone(n.row.Items), v.N)
-		} else {
-			n.over = true
-		}
+		did, over := testheap.Shade(&n.heap, &n.row, v)
+		happens, n.over = happens || did, n.over || over
 	}
 	return n, happens
 }
@@ -210,7 +152,7 @@ func full(pages, class int) (api.Heap, []int) {
 func painted(h api.Heap, addresses ...int) api.Heap {
 	n := testheap.Kept(h)
 	for _, at := range addresses {
-		n.Words[at] ^= colour
+		n.Words[at] ^= testheap.Colour
 	}
 	return n
 }
@@ -539,19 +481,8 @@ func FuzzShade(f *testing.F) {
 	f.Add([]byte{8, 5, 4, 7}, []byte{0, 191, 0, 2, 0, 66, 0, 129, 1, 2}, []byte{2, 0, 0, 0, 0, 0, 1, 0, 0, 2, 255, 255}, 0, true)
 	f.Add([]byte{}, []byte{}, []byte{1}, 16, false)
 	f.Fuzz(func(t *testing.T, pages, words, values []byte, row int, sense bool) {
-		spans := []api.Span{{State: api.SpanClean, Class: 1}}
-		for _, b := range pages[:min(len(pages), api.MaxPages-1)] {
-			s := api.Span{State: int(b) % 3, Class: int(b) / 4 % api.Classes, Free: uint32(b) / 64}
-			if s.State == api.SpanFree {
-				s = api.Span{}
-			}
-			spans = append(spans, s)
-		}
-		h := testheap.Blank(spans...)
+		h := testheap.OfBytes(pages, words)
 		h.Sense = sense
-		for i := range min(len(words)/2, len(h.Words)) {
-			h.Words[i] = uint64(words[2*i])<<8 + uint64(words[2*i+1])
-		}
 		room := int(uint(row) % 17)
 		g := testheap.Row(room, someItems(int(uint(row)/17%uint(room+1)))...)
 		var vs []api.Value

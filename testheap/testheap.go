@@ -9,6 +9,9 @@ import (
 	"flotsam/api"
 )
 
+// Colour is the colour's bit of a header's word.
+const Colour = 64
+
 // WithRoom answers a list of its own with that in it, and room behind its length that is filled with filler.
 func WithRoom[T any](l []T, filler T) []T {
 	out := append(slices.Clone(l), filler, filler, filler)
