@@ -34,11 +34,16 @@ func AnyHeap(number func(below int) int, pages int) api.Heap {
 	return h
 }
 
+// AnyValue answers a value of any kind, most often a Ref into the heap.
+func AnyValue(number func(below int) int, h api.Heap) api.Value {
+	return api.Value{Kind: []int{api.Nil, api.Int, api.Ref, api.Ref, api.Ref, 3}[number(6)], N: number(len(h.Words)+2) - 1}
+}
+
 // AnyValues answers a few values, most of them Refs into the heap, with room behind them that looks like one more.
 func AnyValues(number func(below int) int, h api.Heap) []api.Value {
 	var vs []api.Value
 	for range number(4) {
-		vs = append(vs, api.Value{Kind: []int{api.Nil, api.Int, api.Ref, api.Ref, api.Ref, 3}[number(6)], N: number(len(h.Words)+2) - 1})
+		vs = append(vs, AnyValue(number, h))
 	}
 	return WithRoom(vs, api.Value{Kind: api.Ref})
 }

@@ -44,8 +44,6 @@ func ScrawlOtherwise(m, other api.Marker) {
 		}
 	}
 	if !slices.Equal(m.Roots, other.Roots) {
-		for i := range Whole(m.Roots) {
-			Whole(m.Roots)[i] = api.Value{Kind: -99}
-		}
+		ScrawlValues(m.Roots)
 	}
 }
