@@ -65,64 +65,10 @@ func (s *moment) shadeWith(row *api.Grey, v api.Value) {
 	}
 }
 
-// takeLast pops a row's last one, and takes it in hand.
-func (s *moment) takeLast(row *api.Grey) {
-	last := len(row.Items) - 1
-	at := row.Items[last]
-	row.Items = row.Items[:last]
-	s.takeInHand(at)
-}
-
-// takeInHand takes the object at an address in hand.
-func (s *moment) takeInHand(at int) {
-	if testheap.HeaderAt(s.heap, at).Count > 0 {
-		s.marker.Obj, s.marker.Field = at, 0
-	}
-}
-
-// nextBlack answers the least black object at an address or behind, and whether there is one.
-func (s *moment) nextBlack(at int) (int, bool) {
-	for ; at < len(s.heap.Words); at++ {
-		if x := testheap.HeaderAt(s.heap, at); x.Used && x.Colour == s.heap.Sense {
-			return at, true
-		}
-	}
-	return 0, false
-}
-
 // stepped answers, by the chapter's words alone, what is behind a step, and whether marking is done.
 func stepped(was moment) (moment, bool) {
-	s := kept(was)
-	m := &s.marker
-	who := slices.IndexFunc(m.Barriers, func(g api.Grey) bool { return len(g.Items) > 0 })
-	switch {
-	case m.Obj != -1:
-		fields := testheap.Fields(s.heap, m.Obj)
-		s.shadeWith(&m.Grey, fields[m.Field])
-		if m.Field++; m.Field == len(fields) {
-			m.Obj, m.Field = -1, 0
-		}
-	case len(m.Grey.Items) > 0:
-		s.takeLast(&m.Grey)
-	case who >= 0:
-		s.takeLast(&m.Barriers[who])
-	case len(m.Roots) > 0:
-		first := m.Roots[0]
-		m.Roots = m.Roots[1:]
-		s.shadeWith(&m.Grey, first)
-	case m.Cursor != -1:
-		at, ok := s.nextBlack(m.Cursor)
-		m.Cursor = -1
-		if ok {
-			m.Cursor = at + 1
-			s.takeInHand(at)
-		}
-	case m.Over:
-		m.Over, m.Cursor = false, 0
-	default:
-		return s, true
-	}
-	return s, false
+	h, m, done := testheap.Stepped(was.heap, was.marker)
+	return moment{h, m}, done
 }
 
 // mustStep fails, if Step answers anything else than the chapter tells, or changes what it is handed.

@@ -36,55 +36,19 @@ func wrongStates() []int {
 	return append([]int{api.AtRest, api.AtClaim, 5, 6, 7, 8, 256 + 2, 256 + 3, 256 + 4, 1<<32 + 2, 1<<32 + 3, 1<<32 + 4, -254, -252}, testheap.Far()...)
 }
 
-// registersOf answers, by the chapter's words alone, what a mutator's registers hold.
-func registersOf(m api.Mutator) []api.Value {
-	var l []api.Value
-	if m.State == 2 || m.State == 4 {
-		l = append(l, ref(m.Obj))
-	}
-	if m.State == 3 || m.State == 4 {
-		l = append(l, m.Val)
-	}
-	return l
-}
-
-// heldBy answers, by the chapter's words alone, what mutators hold.
-func heldBy(ms []api.Mutator) []api.Value {
-	var l []api.Value
-	for _, m := range ms {
-		l = slices.Concat(l, m.Stack, registersOf(m))
-	}
-	return l
-}
-
-// takenAway answers, by the chapters' words alone, what the pending writes of mutators take away.
-func takenAway(h api.Heap, ms []api.Mutator) []api.Value {
-	var l []api.Value
-	for _, m := range ms {
-		var v api.Value
-		if x := testheap.HeaderAt(h, m.Obj); m.Op.B >= 0 && m.Op.B < x.Count {
-			v = testheap.Fields(h, m.Obj)[m.Op.B]
-		}
-		if m.State == 4 {
-			l = append(l, v)
-		}
-	}
-	return l
-}
-
 // mustTell fails, if Registers, Held or Pending answer anything else than the chapter tells, or change what they are handed.
 func mustTell(t *testing.T, h api.Heap, ms []api.Mutator) {
 	t.Helper()
 	was, heapWas := testheap.KeptMutators(ms), testheap.Kept(h)
 	for i, m := range ms {
-		if got, want := snap.Registers(m), registersOf(m); !slices.Equal(got, want) {
+		if got, want := snap.Registers(m), testheap.RegistersOf(m); !slices.Equal(got, want) {
 			t.Fatalf("Registers(%+v): %v; not %v", was[i], got, want)
 		}
 	}
-	if got, want := snap.Held(ms), heldBy(was); !slices.Equal(got, want) {
+	if got, want := snap.Held(ms), testheap.HeldBy(was); !slices.Equal(got, want) {
 		t.Fatalf("Held(%+v): %v; not %v", was, got, want)
 	}
-	if got, want := snap.Pending(h, ms), takenAway(heapWas, was); !slices.Equal(got, want) {
+	if got, want := snap.Pending(h, ms), testheap.TakenAway(heapWas, was); !slices.Equal(got, want) {
 		t.Fatalf("Pending(%+v, %+v): %v; not %v", heapWas, was, got, want)
 	}
 	mustStay(t, h, heapWas, ms, was)
@@ -110,7 +74,7 @@ func mustBegin(t *testing.T, c api.Conf, h api.Heap, ms []api.Mutator) (api.Heap
 	want := api.Marker{
 		Grey:     api.Grey{Room: c.Grey},
 		Barriers: slices.Repeat([]api.Grey{{Room: c.Barrier}}, len(ms)),
-		Roots:    append(heldBy(was), takenAway(heapWas, was)...),
+		Roots:    append(testheap.HeldBy(was), testheap.TakenAway(heapWas, was)...),
 		Obj:      -1,
 		Cursor:   -1,
 	}
@@ -372,7 +336,7 @@ func TestWrongRooms(t *testing.T) {
 func mustReachTheSame(t *testing.T, h api.Heap, ms []api.Mutator) {
 	t.Helper()
 	g, m := snap.Begin(api.Conf{Grey: 2, Barrier: 1}, h, ms)
-	want := testheap.Reached(h, heldBy(ms))
+	want := testheap.Reached(h, testheap.HeldBy(ms))
 	if got := reach.From(g, m.Roots); !slices.Equal(got, want) {
 		t.Fatalf("from the roots %v: %v; not %v", m.Roots, got, want)
 	}
@@ -405,7 +369,7 @@ func TestMarkedFromRoots(t *testing.T) {
 		for done := false; !done; {
 			g, m, done = mark.Step(g, m)
 		}
-		if got, want := reach.Black(g), testheap.Reached(h, heldBy(ms)); !slices.Equal(got, want) {
+		if got, want := reach.Black(g), testheap.Reached(h, testheap.HeldBy(ms)); !slices.Equal(got, want) {
 			t.Fatalf("seed %d: %v are black; not %v", seed, got, want)
 		}
 	}

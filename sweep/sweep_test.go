@@ -16,9 +16,6 @@ type cache = [api.Classes]int
 // no is a cache that has no page.
 var no = cache{-1, -1, -1, -1}
 
-// allFree are the masks of all blocks of each class.
-var allFree = []uint32{0xffff, 0xff, 0xf, 0x3}
-
 // What a block has in it, as these tests lay them.
 const (
 	none  = 0 // nothing: it is free
@@ -35,7 +32,7 @@ func span(state, class int, free uint32) api.Span {
 // lay puts what is asked for into a page's blocks of a class, one after another from its first on, and makes it dirty.
 // An object's fields are numbers that tell their addresses.
 func lay(h api.Heap, page, class int, blocks ...int) {
-	s := span(api.SpanDirty, class, allFree[class])
+	s := span(api.SpanDirty, class, testheap.AllFree(class))
 	for i, kind := range blocks {
 		at := 32*page + i*testheap.WordsOf(class)
 		words := make([]uint64, testheap.WordsOf(class))
@@ -54,50 +51,10 @@ func lay(h api.Heap, page, class int, blocks ...int) {
 	h.Spans[page] = s
 }
 
-// stands tells, by the chapter's words alone, whether a page stands in one of the caches.
-func stands(caches []cache, page int) bool {
-	for _, x := range caches {
-		for _, p := range x {
-			if p == page {
-				return true
-			}
-		}
-	}
-	return false
-}
-
-// swept answers, by the chapters' words alone, what One is to answer of a heap that has its form.
-func swept(h api.Heap, caches []cache) (api.Heap, int, int, bool) {
-	page := 0
-	for page < len(h.Spans) && h.Spans[page].State != api.SpanDirty {
-		page++
-	}
-	if page == len(h.Spans) {
-		return h, 0, 0, false
-	}
-	g, freed := testheap.Kept(h), 0
-	s := h.Spans[page]
-	for i := range 32 / testheap.WordsOf(s.Class) {
-		at := 32*page + i*testheap.WordsOf(s.Class)
-		x := testheap.HeaderAt(h, at)
-		if x.Used && x.Colour != h.Sense && s.Free>>i&1 == 0 {
-			testheap.Write(g, at, make([]uint64, testheap.WordsOf(s.Class))...)
-			s.Free += 1 << i
-			freed += testheap.WordsOf(s.Class)
-		}
-	}
-	s.State = api.SpanClean
-	if s.Free == allFree[s.Class] && !stands(caches, page) {
-		s = api.Span{}
-	}
-	g.Spans[page] = s
-	return g, page, freed, true
-}
-
 // mustSweep fails, if One answers anything else than is asked for; it answers what One does.
 func mustSweep(t *testing.T, h api.Heap, caches []cache) (api.Heap, int, int, bool) {
 	t.Helper()
-	wantHeap, wantPage, wantFreed, want := swept(h, caches)
+	wantHeap, wantPage, wantFreed, want := testheap.Swept(h, caches)
 	g, page, freed, ok := sweep.One(h, caches)
 	if ok != want || page != wantPage || freed != wantFreed || !testheap.Same(g, wantHeap) {
 		t.Fatalf("One(%+v, %v): %+v, %d, %d, %t; not %+v, %d, %d, %t",
@@ -111,7 +68,7 @@ func mustSweepAll(t *testing.T, h api.Heap, caches []cache) (api.Heap, int) {
 	t.Helper()
 	want, total := h, 0
 	for {
-		g, _, freed, ok := swept(want, caches)
+		g, _, freed, ok := testheap.Swept(want, caches)
 		if !ok {
 			break
 		}
@@ -247,7 +204,7 @@ func TestOne(t *testing.T) {
 					t.Errorf("class %d: %d, %d, %t", c, page, freed, ok)
 				}
 				stays := 32 + (1-gone)*words
-				if g.Spans[1] != span(api.SpanClean, c, allFree[c]-1<<(1-gone)) || g.Spans[0] != (api.Span{}) {
+				if g.Spans[1] != span(api.SpanClean, c, testheap.AllFree(c)-1<<(1-gone)) || g.Spans[0] != (api.Span{}) {
 					t.Errorf("class %d: %+v", c, g.Spans)
 				}
 				for at, w := range g.Words {
@@ -367,7 +324,7 @@ func TestOneKeepsOpen(t *testing.T) {
 				caches := slices.Repeat([]cache{no}, mutators)
 				caches[place/api.Classes][place%api.Classes] = 1
 				g, page, freed, ok := sweep.One(h, caches)
-				if !ok || page != 1 || freed != 2*testheap.WordsOf(c) || g.Spans[1] != span(api.SpanClean, c, allFree[c]) {
+				if !ok || page != 1 || freed != 2*testheap.WordsOf(c) || g.Spans[1] != span(api.SpanClean, c, testheap.AllFree(c)) {
 					t.Errorf("class %d, %v: %+v, %d, %d, %t", c, caches, g.Spans, page, freed, ok)
 				}
 			}
@@ -624,7 +581,7 @@ func FuzzSweep(f *testing.F) {
 		for page := range spans {
 			if state := next(3); state != api.SpanFree {
 				c := next(api.Classes)
-				spans[page] = span(state, c, uint32(next(256)+next(256)<<8)&allFree[c])
+				spans[page] = span(state, c, uint32(next(256)+next(256)<<8)&testheap.AllFree(c))
 			}
 		}
 		caches := anyCaches(next, len(spans))

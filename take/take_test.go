@@ -29,7 +29,6 @@ var (
 	clean3   = api.Span{State: api.SpanClean, Class: 3, Free: 2}
 	full3    = api.Span{State: api.SpanClean, Class: 3, Free: 0}
 	dirty3   = api.Span{State: api.SpanDirty, Class: 3, Free: 3}
-	allFree  = []uint32{0xffff, 0xff, 0xf, 0x3}
 	classFor = []int{0, 0, 1, 1, 2, 2, 2, 2, 3, 3, 3, 3, 3, 3, 3, 3}
 )
 
@@ -96,7 +95,7 @@ func taken(h api.Heap, caches []cache, m, fields int) (api.Heap, []cache, int, b
 	}
 	h, caches = testheap.Kept(h), slices.Clone(caches)
 	if h.Spans[p].State == api.SpanFree {
-		h.Spans[p] = api.Span{State: api.SpanClean, Class: c, Free: allFree[c]}
+		h.Spans[p] = api.Span{State: api.SpanClean, Class: c, Free: testheap.AllFree(c)}
 	}
 	caches[m][c] = p
 	index := 0
@@ -438,7 +437,7 @@ func sweptOrSo(h api.Heap, caches []cache, next func(int) int) {
 		}
 	case 2:
 		if s.State != api.SpanFree {
-			s.Free |= 1 << next(32) & allFree[s.Class]
+			s.Free |= 1 << next(32) & testheap.AllFree(s.Class)
 		}
 	case 3:
 		if places(caches, page) == 0 {

@@ -64,3 +64,40 @@ func AnyMutators(number func(below int) int, h api.Heap) []api.Mutator {
 	}
 	return WithRoom(ms, api.Mutator{Stack: RefsTo(0), State: api.AtStore, Val: api.Value{Kind: api.Ref}})
 }
+
+// RegistersOf answers, by the chapter's words alone, what a mutator's registers hold.
+func RegistersOf(m api.Mutator) []api.Value {
+	obj := api.Value{Kind: api.Ref, N: m.Obj}
+	var l []api.Value
+	if m.State == 2 || m.State == 4 {
+		l = append(l, obj)
+	}
+	if m.State == 3 || m.State == 4 {
+		l = append(l, m.Val)
+	}
+	return l
+}
+
+// HeldBy answers, by the chapter's words alone, what mutators hold.
+func HeldBy(ms []api.Mutator) []api.Value {
+	var l []api.Value
+	for _, m := range ms {
+		l = slices.Concat(l, m.Stack, RegistersOf(m))
+	}
+	return l
+}
+
+// TakenAway answers, by the chapters' words alone, what the pending writes of mutators take away.
+func TakenAway(h api.Heap, ms []api.Mutator) []api.Value {
+	var l []api.Value
+	for _, m := range ms {
+		var v api.Value
+		if x := HeaderAt(h, m.Obj); m.Op.B >= 0 && m.Op.B < x.Count {
+			v = Fields(h, m.Obj)[m.Op.B]
+		}
+		if m.State == 4 {
+			l = append(l, v)
+		}
+	}
+	return l
+}
