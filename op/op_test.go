@@ -42,39 +42,6 @@ func wrongKinds() []int {
 	return append([]int{7, 8, 9, 15, 16, 255, 256, 256 + 1, 256 + 6, 1<<32 + 2, 1<<32 + 5, 1<<32 + 6, -1<<32 + 6, -250}, testheap.Far()...)
 }
 
-// errorOf answers, by the chapters' words alone, what Check tells: the first of these that holds.
-func errorOf(h api.Heap, stack []api.Value, room int, o api.Op) api.Errno {
-	there := func(i int) bool { return i >= 0 && i < len(stack) }
-	var v api.Value
-	if there(o.A) {
-		v = stack[o.A]
-	}
-	x := testheap.HeaderAt(h, v.N)
-	ofObject := o.Kind == 1 || o.Kind == 2
-	for _, rule := range []struct {
-		broken bool
-		e      api.Errno
-	}{
-		{!slices.Contains(pushing, o.Kind) && !slices.Contains(others, o.Kind), 1},
-		{o.Kind == 0 && (o.A < 0 || o.A > 15), 1},
-		{o.Kind == 4 && (o.A < 0 || o.A > 1<<40), 1},
-		{ofObject && !there(o.A), 3},
-		{ofObject && v.Kind == 0, 2},
-		{ofObject && v.Kind != 2, 7},
-		{ofObject && !x.Used, 1},
-		{ofObject && (o.B < 0 || o.B >= x.Count), 4},
-		{o.Kind == 2 && !there(o.C), 3},
-		{o.Kind == 3 && !there(o.A), 3},
-		{o.Kind == 5 && len(stack) == 0, 3},
-		{slices.Contains(pushing, o.Kind) && len(stack) >= room, 5},
-	} {
-		if rule.broken {
-			return rule.e
-		}
-	}
-	return 0
-}
-
 // mustTell fails, if Check tells anything else than that of an operation, or changes what it is handed, the room behind the
 // lists included.
 func mustTell(t *testing.T, h api.Heap, stack []api.Value, room int, o api.Op, want api.Errno) {
@@ -93,7 +60,7 @@ func mustTell(t *testing.T, h api.Heap, stack []api.Value, room int, o api.Op, w
 // mustFollow fails, if Check tells anything else than the chapters' words.
 func mustFollow(t *testing.T, h api.Heap, stack []api.Value, room int, o api.Op) {
 	t.Helper()
-	mustTell(t, h, stack, room, o, errorOf(h, stack, room, o))
+	mustTell(t, h, stack, room, o, testheap.ErrorOf(h, stack, room, o))
 }
 
 // row is an operation, and what Check tells of it.
@@ -340,11 +307,6 @@ func TestNoWords(t *testing.T) {
 	}
 }
 
-// anyOp answers an operation, most often one that names a slot of such a stack, and a field that may be.
-func anyOp(number func(below int) int, slots int) api.Op {
-	return api.Op{Kind: number(api.Ops+2) - 1, A: number(slots+3) - 1, B: number(9) - 1, C: number(slots+2) - 1}
-}
-
 // TestEachMoment is of P19.1 and P19.2: of heaps of any words, and stacks and operations of any kind.
 func TestEachMoment(t *testing.T) {
 	seen := map[api.Errno]int{}
@@ -353,9 +315,9 @@ func TestEachMoment(t *testing.T) {
 		h := testheap.AnyHeap(number, 1+seed%16)
 		stack := testheap.AnyValues(number, h)
 		for range 40 {
-			o, room := anyOp(number, len(stack)), number(6)
+			o, room := testheap.AnyOp(number, len(stack)), number(6)
 			mustFollow(t, h, stack, room, o)
-			seen[errorOf(h, stack, room, o)]++
+			seen[testheap.ErrorOf(h, stack, room, o)]++
 		}
 	}
 	for _, e := range []api.Errno{api.OK, api.ErrArg, api.ErrNil, api.ErrNone, api.ErrField, api.ErrFull, api.ErrKind} {
@@ -372,7 +334,7 @@ func TestWhatIsAllowedCanBeDone(t *testing.T) {
 		h := testheap.AnyHeap(number, 1+seed%16)
 		stack := testheap.AnyValues(number, h)
 		for range 20 {
-			o := anyOp(number, len(stack))
+			o := testheap.AnyOp(number, len(stack))
 			if op.Check(h, stack, 4, o) == api.OK {
 				mustDo(t, h, stack, o)
 			}
@@ -422,7 +384,7 @@ func FuzzOp(f *testing.F) {
 		stack := testheap.AnyValues(number, h)
 		mustFollow(t, h, stack, room, api.Op{Kind: kind, A: a, B: b, C: c})
 		for range 20 {
-			o := anyOp(number, len(stack))
+			o := testheap.AnyOp(number, len(stack))
 			mustFollow(t, h, stack, number(6), o)
 			mustFollow(t, h, stack, room, o)
 		}

@@ -18,18 +18,17 @@ var no = cache{-1, -1, -1, -1}
 
 // Spans of each kind that is told apart here; those of class 0 with two free blocks or none, but for what the name tells.
 var (
-	free     = api.Span{}
-	clean    = api.Span{State: api.SpanClean, Class: 0, Free: 0x9000}
-	full     = api.Span{State: api.SpanClean, Class: 0, Free: 0}
-	empty    = api.Span{State: api.SpanClean, Class: 0, Free: 0xffff}
-	dirty    = api.Span{State: api.SpanDirty, Class: 0, Free: 0xffff}
-	dirtied  = api.Span{State: api.SpanDirty, Class: 0, Free: 0}
-	clean1   = api.Span{State: api.SpanClean, Class: 1, Free: 0x41}
-	clean2   = api.Span{State: api.SpanClean, Class: 2, Free: 4}
-	clean3   = api.Span{State: api.SpanClean, Class: 3, Free: 2}
-	full3    = api.Span{State: api.SpanClean, Class: 3, Free: 0}
-	dirty3   = api.Span{State: api.SpanDirty, Class: 3, Free: 3}
-	classFor = []int{0, 0, 1, 1, 2, 2, 2, 2, 3, 3, 3, 3, 3, 3, 3, 3}
+	free    = api.Span{}
+	clean   = api.Span{State: api.SpanClean, Class: 0, Free: 0x9000}
+	full    = api.Span{State: api.SpanClean, Class: 0, Free: 0}
+	empty   = api.Span{State: api.SpanClean, Class: 0, Free: 0xffff}
+	dirty   = api.Span{State: api.SpanDirty, Class: 0, Free: 0xffff}
+	dirtied = api.Span{State: api.SpanDirty, Class: 0, Free: 0}
+	clean1  = api.Span{State: api.SpanClean, Class: 1, Free: 0x41}
+	clean2  = api.Span{State: api.SpanClean, Class: 2, Free: 4}
+	clean3  = api.Span{State: api.SpanClean, Class: 3, Free: 2}
+	full3   = api.Span{State: api.SpanClean, Class: 3, Free: 0}
+	dirty3  = api.Span{State: api.SpanDirty, Class: 3, Free: 3}
 )
 
 // heapOf answers a heap of these spans, each of whose words tells its address, with room behind both lists.
@@ -44,25 +43,12 @@ func heapOf(spans ...api.Span) api.Heap {
 // cachesOf answers a list of these, with room behind its length that looks like a cache of the page 0.
 func cachesOf(l ...cache) []cache { return testheap.WithRoom(l, cache{0, 0, 0, 0}) }
 
-// places answers in how many places of the caches a page stands.
-func places(caches []cache, page int) int {
-	n := 0
-	for _, x := range caches {
-		for _, p := range x {
-			if p == page {
-				n++
-			}
-		}
-	}
-	return n
-}
-
 // areRight tells, by the chapter's words alone, whether the caches are right beside a heap.
 func areRight(h api.Heap, caches []cache) bool {
 	for _, x := range caches {
 		for c, p := range x {
 			isOne := p >= 0 && p < len(h.Spans) && h.Spans[p].State != api.SpanFree && h.Spans[p].Class == c
-			if p != -1 && !(isOne && places(caches, p) == 1) {
+			if p != -1 && !(isOne && testheap.Places(caches, p) == 1) {
 				return false
 			}
 		}
@@ -70,52 +56,10 @@ func areRight(h api.Heap, caches []cache) bool {
 	return true
 }
 
-// found answers, by the chapter's words alone, the page that is to be found; -1, if none is.
-func found(h api.Heap, caches []cache, m, c int) int {
-	for rank := range 3 {
-		for p, s := range h.Spans {
-			has := s.State == api.SpanClean && s.Class == c && s.Free != 0
-			if [3]bool{has && caches[m][c] == p, has && places(caches, p) == 0, s.State == api.SpanFree}[rank] {
-				return p
-			}
-		}
-	}
-	return -1
-}
-
-// taken answers, by the chapters' words alone, what Take is to answer of a heap that has its form, and right caches.
-func taken(h api.Heap, caches []cache, m, fields int) (api.Heap, []cache, int, bool) {
-	if fields < 0 || fields > 15 {
-		return h, caches, 0, false
-	}
-	c := classFor[fields]
-	p := found(h, caches, m, c)
-	if p < 0 {
-		return h, caches, 0, false
-	}
-	h, caches = testheap.Kept(h), slices.Clone(caches)
-	if h.Spans[p].State == api.SpanFree {
-		h.Spans[p] = api.Span{State: api.SpanClean, Class: c, Free: testheap.AllFree(c)}
-	}
-	caches[m][c] = p
-	index := 0
-	for h.Spans[p].Free>>index&1 == 0 {
-		index++
-	}
-	h.Spans[p].Free -= 1 << index
-	at := 32*p + index*testheap.WordsOf(c)
-	testheap.Write(h, at, make([]uint64, testheap.WordsOf(c))...)
-	h.Words[at] = uint64(128 + 16*c + fields)
-	if h.Sense {
-		h.Words[at] += 64
-	}
-	return h, caches, at, true
-}
-
 // mustTake fails, if Take answers anything else than is asked for; it answers what Take does.
 func mustTake(t *testing.T, h api.Heap, caches []cache, m, fields int) (api.Heap, []cache, int, bool) {
 	t.Helper()
-	wantHeap, wantCaches, wantAt, want := taken(h, caches, m, fields)
+	wantHeap, wantCaches, wantAt, want := testheap.Taken(h, caches, m, fields)
 	g, d, at, ok := take.Take(h, caches, m, fields)
 	if ok != want || at != wantAt || !testheap.Same(g, wantHeap) || !slices.Equal(d, wantCaches) {
 		t.Fatalf("Take(%+v, %v, %d, %d): %+v, %v, %d, %t; not %+v, %v, %d, %t",
@@ -296,7 +240,7 @@ func TestPageOfAll(t *testing.T) {
 			}
 			for m := range 2 {
 				for c := range api.Classes {
-					mustFind(t, h, caches, m, c, found(h, caches, m, c))
+					mustFind(t, h, caches, m, c, testheap.Found(h, caches, m, c))
 					seen++
 				}
 			}
@@ -343,11 +287,11 @@ func TestTake(t *testing.T) {
 // TestTakeOfEachClass is of P11.2: the least class for so many fields, in free pages and in such as are in use.
 func TestTakeOfEachClass(t *testing.T) {
 	classes := []api.Span{clean3, free, clean2, clean1, clean, free}
-	for fields, c := range classFor {
+	for fields, c := range testheap.ClassFor() {
 		h := heapOf(free, free)
 		for _, h.Sense = range []bool{false, true} {
 			g, d, at, ok := mustTake(t, h, cachesOf(no, no), 1, fields)
-			if !ok || at != 0 || g.Spans[0].Class != c || d[1][c] != 0 || places(d, 0) != 1 || g.Sense != h.Sense {
+			if !ok || at != 0 || g.Spans[0].Class != c || d[1][c] != 0 || testheap.Places(d, 0) != 1 || g.Sense != h.Sense {
 				t.Errorf("%d fields: %+v, %v, %d, %t", fields, g.Spans, d, at, ok)
 			}
 		}
@@ -360,7 +304,7 @@ func TestTakeOfEachClass(t *testing.T) {
 
 // TestTakeTillFull is of P11.2: one block after another, then the next page; the full one is in no cache then.
 func TestTakeTillFull(t *testing.T) {
-	for fields, c := range classFor {
+	for fields, c := range testheap.ClassFor() {
 		h, caches, blocks := heapOf(free, free, free), cachesOf(no), 32/testheap.WordsOf(c)
 		for i := range 3 * blocks {
 			g, d, at, ok := mustTake(t, h, caches, 0, fields)
@@ -369,7 +313,7 @@ func TestTakeTillFull(t *testing.T) {
 			}
 			h, caches = g, d
 		}
-		if _, _, _, ok := mustTake(t, h, caches, 0, fields); ok || places(caches, 0) != 0 || caches[0][c] != 2 {
+		if _, _, _, ok := mustTake(t, h, caches, 0, fields); ok || testheap.Places(caches, 0) != 0 || caches[0][c] != 2 {
 			t.Errorf("%d fields: %v, %t", fields, caches, ok)
 		}
 	}
@@ -440,7 +384,7 @@ func sweptOrSo(h api.Heap, caches []cache, next func(int) int) {
 			s.Free |= 1 << next(32) & testheap.AllFree(s.Class)
 		}
 	case 3:
-		if places(caches, page) == 0 {
+		if testheap.Places(caches, page) == 0 {
 			*s = free
 		}
 	}
@@ -466,7 +410,7 @@ func TestCachesStayRight(t *testing.T) {
 			h, caches = testheap.Kept(g), slices.Clone(d)
 			sweptOrSo(h, caches, next)
 			for page := -1; page <= len(h.Spans); page++ {
-				if take.Kept(caches, page) != (page >= 0 && places(caches, page) > 0) {
+				if take.Kept(caches, page) != (page >= 0 && testheap.Places(caches, page) > 0) {
 					t.Fatalf("Kept(%v, %d)", caches, page)
 				}
 			}
@@ -564,7 +508,7 @@ func FuzzTake(f *testing.F) {
 		h.Sense = sense
 		for len(l) > 0 {
 			m, c := next(len(caches)), next(api.Classes)
-			mustFind(t, h, caches, m, c, found(h, caches, m, c))
+			mustFind(t, h, caches, m, c, testheap.Found(h, caches, m, c))
 			g, d, _, _ := mustTake(t, h, caches, m, next(18)-1)
 			if !take.Right(g, d) || !areRight(g, d) {
 				t.Fatalf("%+v, %v", g.Spans, d)

@@ -80,6 +80,42 @@ func AnyWorld(number func(below int) int, pages int) api.World {
 	return w
 }
 
+// AnyInPlay answers a world as AnyWorld does, whose mutators may have turns: those that are to push have room for a value, and
+// those that claim name so many fields as may be. At rest are about half of them.
+func AnyInPlay(number func(below int) int, pages int) api.World {
+	w := AnyWorld(number, pages)
+	if number(2) == 0 {
+		w.Conf.Roots = 3
+	}
+	for i := range w.Mutators {
+		m := &w.Mutators[i]
+		if number(3) == 0 {
+			*m = api.Mutator{Stack: m.Stack, Cache: m.Cache}
+		}
+		if number(4) == 0 {
+			m.State = api.AtClaim
+		}
+		if m.State == api.AtClaim {
+			m.Op = api.Op{Kind: api.OpAlloc, A: number(api.MaxFields + 1), B: number(3), C: -number(3)}
+		}
+		if isToPush := m.State >= api.AtClaim && m.State <= api.AtPush; isToPush && len(m.Stack) == w.Conf.Roots {
+			m.Stack = m.Stack[:len(m.Stack)-1]
+		}
+		holdAny(number, w.Heap, m.Stack)
+	}
+	return w
+}
+
+// holdAny makes some values of a stack Refs to objects that have fields, if there are such.
+func holdAny(number func(below int) int, h api.Heap, stack []api.Value) {
+	scanned := withFields(h)
+	for i := range stack {
+		if number(2) == 0 && len(scanned) > 0 {
+			stack[i] = api.Value{Kind: api.Ref, N: scanned[number(len(scanned))]}
+		}
+	}
+}
+
 // freeAny makes blocks of a heap free here and there, whatever is in them.
 func freeAny(number func(below int) int, h api.Heap) {
 	for i, s := range h.Spans {
